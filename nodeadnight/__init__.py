@@ -1,0 +1,1 @@
+"""Nodeadnight: nights that can always still be sold."""
