@@ -2,6 +2,7 @@
 
 LAST_DAY = 999999999999
 DIGITS = 12
+LETTERS = 8
 
 
 def is_whole(value):
@@ -22,6 +23,11 @@ def are_from(values, least, most):
 def is_day(value):
     """Whether any value is a day."""
     return is_from(value, -LAST_DAY, LAST_DAY)
+
+
+def is_name(value):
+    """Whether any value is a name of a guest."""
+    return isinstance(value, str) and 1 <= len(value) <= LETTERS and all(["a" <= sign <= "z" for sign in value])
 
 
 def read_number(word):

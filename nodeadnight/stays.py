@@ -60,3 +60,9 @@ class Stay:
 
     def __str__(self):
         return f"{self.first}+{len(self._nights)}"
+
+
+def check_stay(value):
+    """Refuses any value that is no Stay."""
+    if not isinstance(value, Stay):
+        raise BadStay("stay")

@@ -2,23 +2,52 @@
 
 import random
 
+from nodeadnight.books import Book
+from nodeadnight.calendars import Calendar
 from nodeadnight.days import Days
+from nodeadnight.doors import All, Weakest
+from nodeadnight.errors import BadCount, TooMany
+from nodeadnight.fills import Bar, Climb, Fill
 from nodeadnight.lengths import Lengths
+from nodeadnight.rules import Comes, Lasts, Not
 from nodeadnight.stays import Stay
+from nodeadnight.stretches import Stretch
+
+# Objects of the package that are made only to be passed where they do not belong.
+OBJECTS = [
+    Lengths.of(1), Days.every(), Stay(0, 1), Comes(Days.every()), Lasts(Lengths.every()), Not(Comes(Days.none())),
+    Book.every(), Book.none(), Stretch(0, 1), Stretch(0, None), Calendar(1, 0, 1), Fill(()), Bar((0,)),
+    Climb((), {0: 0, 1: 0}), All(), Weakest(Book.every()), BadCount(1), TooMany("rules", 30),
+]
 
 # Values that are no integers, of every kind that may be passed as any value.
 NO_INTEGERS = [
     None, True, False, "", "1", "3+4", "none", "every", "by 7 at 5", "a b\nc", "~" * 3000, (), (1,), [], [0, 1],
-    {}, {"a": 1}, {1: [2, (3, None)]}, [[[[0]]]], Lengths.of(1), Days.every(), Stay(0, 1),
-]
+    {}, {"a": 1}, {1: [2, (3, None)]}, [[[[0]]]],
+] + OBJECTS
 
 # Values that are no list or tuple.
 NO_ROWS = [None, True, False, 0, 1, -1, 10 ** 59, "", "01", {}, {0: 0}, Lengths.of(0), Days.every(), Stay(0, 1)]
 
+INTEGERS = [0, 1, 34, -1, 10 ** 59, -10 ** 59]
+
 # Values that are no strings.
-NO_STRINGS = [value for value in NO_INTEGERS if not isinstance(value, str)] + [0, 1, 34, -1, 10 ** 59]
+NO_STRINGS = [value for value in NO_INTEGERS if not isinstance(value, str)] + INTEGERS
+
+VALUES = NO_INTEGERS + INTEGERS
 
 FAR = 10 ** 59
+LAST = 10 ** 12 - 1
+
+
+def none_of(kind):
+    """Values of every kind but one."""
+    return [value for value in VALUES if not isinstance(value, kind)]
+
+
+def no_days():
+    """Values that are no days."""
+    return NO_INTEGERS + [LAST + 1, -LAST - 1, FAR, -FAR]
 
 
 def fields_of(error, names):
@@ -50,6 +79,15 @@ class Checks:
                 self.same(one, other)
         else:
             self.assertEqual(answer, expected)
+
+    def alone(self, one, others):
+        """Checks that an object equals none of the other values, from both sides."""
+        for other in others:
+            self.same([one == other, other == one, one != other, other != one], [False, False, True, True])
+
+    def defines(self, kind, names):
+        """Checks that a class has these methods in its own body, as the interface asks."""
+        self.assertEqual([name for name in names if name not in vars(kind)], [])
 
 
 def shuffled(seed, many, make):
