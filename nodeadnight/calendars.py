@@ -163,4 +163,5 @@ def names_by_stays(calendar):
     for name, stay in calendar.guests():
         place = (stay.first - calendar.first) * (Calendar.NIGHTS + 1) + len(stay)
         found.setdefault(place, []).append(name)
-    return [name for place in sorted([int(place) for place in found]) for name in found[place]]
+    order = sorted([int(number) for number in found])
+    return [name for number in order for name in found[number]]

@@ -125,7 +125,9 @@ class Behind(Door):
         return isinstance(other, Behind) and self.lengths == other.lengths and self.endless == other.endless
 
     def __str__(self):
-        return f"behind endless {self.lengths}" if self.endless else f"behind {self.lengths}"
+        if self.endless:
+            return f"behind endless {self.lengths}"
+        return f"behind {self.lengths}"
 
 
 class Lets(Door):

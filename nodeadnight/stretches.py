@@ -42,7 +42,9 @@ class Stretch:
         return isinstance(other, Stretch) and self.day == other.day and self.nights == other.nights
 
     def __str__(self):
-        return f"{self.day}+" if self.nights is None else f"{self.day}+{self.nights}"
+        if self.nights is None:
+            return f"{self.day}+"
+        return f"{self.day}+{self.nights}"
 
 
 def fillable(book, day):

@@ -14,12 +14,11 @@ property staticmethod classmethod
 Exception ValueError TypeError KeyError IndexError LookupError ZeroDivisionError ArithmeticError OverflowError
 RuntimeError NotImplementedError AttributeError StopIteration NotImplemented""".split())
 
+# Without heapq, since classes have an order of their own, and without product and its kin, since an object with a
+# length is iterated over.
 LIBRARY = {
     "math": {"gcd", "lcm", "isqrt", "comb", "perm", "factorial"},
-    "heapq": {"heappush", "heappop", "heapify", "heapreplace", "heappushpop"},
-    "itertools": {
-        "product", "combinations", "permutations", "chain", "accumulate", "pairwise", "islice", "zip_longest",
-    },
+    "itertools": {"chain", "accumulate", "pairwise", "islice", "zip_longest"},
     "collections": {"defaultdict", "deque"},
 }
 
@@ -37,6 +36,21 @@ def nodes(kind):
         for node in ast.walk(ast.parse(path.read_text())):
             if isinstance(node, kind):
                 yield path.name, node
+
+
+def kind_of(method):
+    """Whether a method is a plain one, a property or another one."""
+    marks = [ast.unparse(mark) for mark in method.decorator_list]
+    return "plain" if not marks else "property" if marks[0] == "property" or "setter" in marks[0] else "static"
+
+
+def is_plain_number(node):
+    """Whether a value is plainly a number or a string, so that no order of a class can play a part."""
+    if isinstance(node, ast.ListComp):
+        return is_plain_number(node.elt)
+    if isinstance(node, ast.Call):
+        return ast.unparse(node.func) in ("int", "len", "str", "set")
+    return isinstance(node, ast.Constant)
 
 
 class LanguageTest(unittest.TestCase):
@@ -106,6 +120,68 @@ class LanguageTest(unittest.TestCase):
         for name, node in nodes(ast.Compare):
             if any(isinstance(sign, (ast.Is, ast.IsNot)) for sign in node.ops):
                 self.assertIn(ast.unparse(node.comparators[-1]), ["None", "True", "False", "self"], (name, node.lineno))
+
+    def test_no_sums_in_place(self):
+        # A class has an __iadd__.
+        self.none_of(nodes(ast.AugAssign))
+
+    def test_orders_of_plain_numbers_alone(self):
+        for name, node in nodes(ast.Call):
+            if ast.unparse(node.func) in ("sorted", "min", "max"):
+                keys = [ast.unparse(word.value) for word in node.keywords if word.arg == "key"]
+                plain = keys in (["int"], ["len"], ["str"]) or any(is_plain_number(value) for value in node.args)
+                self.assertTrue(plain, (name, node.lineno))
+
+    def test_no_name_of_an_import_or_a_class(self):
+        for path in FILES:
+            tree = ast.parse(path.read_text())
+            bound = {alias.name for node in tree.body if isinstance(node, ast.ImportFrom) for alias in node.names}
+            bound |= {node.name for node in tree.body if isinstance(node, (ast.ClassDef, ast.FunctionDef))}
+            used = {node.arg for node in ast.walk(tree) if isinstance(node, ast.arg)}
+            used |= {node.id for node in ast.walk(tree)
+                     if isinstance(node, ast.Name) and isinstance(node.ctx, ast.Store)}
+            self.assertEqual(bound & used, set(), path.name)
+
+    def test_names_of_methods_and_attributes(self):
+        names = {"plain": set(), "property": set(), "static": set(), "attribute": set()}
+        for _, kind in nodes(ast.ClassDef):
+            for method in kind.body:
+                if isinstance(method, ast.FunctionDef):
+                    names[kind_of(method)].add(method.name)
+        for _, node in nodes(ast.Attribute):
+            if isinstance(node.ctx, ast.Store):
+                names["attribute"].add(node.attr)
+        # A property of one class may be an attribute of another one: the document has such.
+        for kind, other in [("plain", "property"), ("plain", "static"), ("plain", "attribute"), ("static", "property"),
+                            ("static", "attribute")]:
+            self.assertEqual(names[kind] & names[other], set(), (kind, other))
+
+    def test_names_of_generators(self):
+        functions = [node for _, node in nodes(ast.FunctionDef)]
+        walks = [node for node in functions if any(isinstance(part, ast.Yield) for part in ast.walk(node))]
+        for walk in walks:
+            self.assertEqual(len([node for node in functions if node.name == walk.name]), 1, walk.name)
+
+    def test_texts(self):
+        for name, node in nodes(ast.FunctionDef):
+            if node.name == "__str__":
+                for part in ast.walk(node):
+                    if isinstance(part, ast.Return):
+                        self.assertIsInstance(part.value, (ast.JoinedStr, ast.Constant, ast.Call), (name, part.lineno))
+
+    def test_no_kept_ranges_in_signs(self):
+        for name, node in nodes(ast.FunctionDef):
+            if node.name.startswith("__") and node.name != "__init__":
+                self.none_of((name, part) for part in ast.walk(node) if isinstance(part, ast.Assign)
+                             and isinstance(part.value, ast.Call)
+                             and ast.unparse(part.value.func) in ("range", "zip", "enumerate", "reversed"))
+
+    def test_each_import_is_used(self):
+        for path in FILES:
+            tree = ast.parse(path.read_text())
+            bound = {alias.name for node in tree.body if isinstance(node, ast.ImportFrom) for alias in node.names}
+            used = {node.id for node in ast.walk(tree) if isinstance(node, ast.Name)}
+            self.assertEqual(bound - used, set(), path.name)
 
 
 if __name__ == "__main__":

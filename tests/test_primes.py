@@ -163,6 +163,12 @@ class MissingTest(Checks, unittest.TestCase):
         other = Book(Lasts(Lengths.steps(0, 56)))
         self.same(missing(one, other), least_missing(one, other))
 
+    def test_however_many_nights(self):
+        # Stays from a day 0 end on a day 1, on which nobody comes: so just they are rows.
+        odd = Lengths(0, [], 58, [n for n in range(1, 58, 2) if n != 5])
+        one, other = Book.by_days(odd, Lengths.none()), Book.by_days(Lengths.steps(1, 56), Lengths.none())
+        self.same([missing(one, other), least_missing(one, other, 1600)], [(0, 27 * 56 + 1)] * 2)
+
     def test_least_day(self):
         one = Book.by_days(Lengths.of(2), Lengths.of(2), Lengths.of(2), Lengths.of(3))
         self.same(missing(one, Book(Lasts(Lengths.of(2, 3)))), (3, 2))

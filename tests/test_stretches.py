@@ -50,7 +50,8 @@ class StretchTest(Checks, unittest.TestCase):
     def test_equal(self):
         rows = list(itertools.product([-1, 0, 5], [None, 0, 1, 5]))
         for one, other in itertools.product(rows, rows):
-            self.same([Stretch(*one) == Stretch(*other), Stretch(*one) != Stretch(*other)], [one == other, one != other])
+            equal = one == other
+            self.same([Stretch(*one) == Stretch(*other), Stretch(*one) != Stretch(*other)], [equal, not equal])
         self.alone(Stretch(0, 1), none_of(Stretch) + ["0+1", (0, 1)])
         self.alone(Stretch(0, None), none_of(Stretch) + ["0+"])
 
