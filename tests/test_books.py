@@ -248,9 +248,10 @@ class StaysTest(Checks, unittest.TestCase):
             self.same(list(Book.every().let_stays(first, after)), [])
 
     def test_none_of_more_than_400_nights(self):
-        stays = list(Book.every().let_stays(0, 405))
-        self.same(max(len(stay) for stay in stays), 400)
-        self.same(len(stays), 5 * 400 + 400 * 401 // 2)
+        many = [0] * 402
+        for stay in Book.every().let_stays(0, 405):
+            many[len(stay)] += 1
+        self.same(many, [0] + [406 - n for n in range(1, 401)] + [0])
         only = [str(stay) for stay in Book.by_days(Lengths.steps(3, 397)).let_stays(0, 410)]
         self.same(only, [text for day in range(410) for text in [f"{day}+3", f"{day}+400"]
                          if day + int(text.split("+")[1]) <= 410])

@@ -239,6 +239,12 @@ class RoomsTest(Checks, unittest.TestCase):
             calendar[name] = stay
         self.same(calendar.room_plan() == {"bo": 0, "cy": 1, "al": 2, "dee": 0}, True)
 
+    def test_room_plan_of_the_longest_stays(self):
+        calendar = Calendar(3, 0, 40)
+        for name, stay in [("bo", Stay(0, 40)), ("al", Stay(1, 2)), ("cy", Stay(1, 40))]:
+            calendar[name] = stay
+        self.same(calendar.room_plan() == {"bo": 0, "al": 1, "cy": 2}, True)
+
     def test_room_plan_is_the_callers(self):
         calendar = inn()
         plan = calendar.room_plan()

@@ -187,6 +187,7 @@ class ClassesTest(Checks, unittest.TestCase):
             self.assertTrue(all(one is two for one, two in zip(kind(door, other, door).doors, (door, other, door))))
 
     def test_size(self):
+        self.same([Behind(NUMBERS[0]).size, Lets(RULES[1]).size, Some().size], [1, 1, 1])
         self.same([SHORT.size, Weakest(THREES).size, All().size, Some(SHORT, All(SHORT)).size, No(SHORT).size,
                    chain(30).size, All(*[SHORT] * 29).size], [1, 1, 1, 4, 2, 30, 30])
         with self.assertRaises(AttributeError):

@@ -320,6 +320,7 @@ class CalendarTest(Checks, unittest.TestCase):
         self.wrong("calendar 1 0 4\nguest bo 0+2\n", 2, 0)
         self.wrong("calendar 1 0 4\n\nguest bo 0+2", 1, 0)
         self.wrong("calendar 1 0 4\nguest bo 0+2\nguest bob 2+1\nguest bo 3+1", 3, 1)
+        self.wrong("calendar 1 0 4\nguest a 0+2\nguest cy 2+1\nguest bo 3+1", 3, 1)
 
     def test_refused_guests(self):
         head = "calendar 1 0 4\nguest bo 1+2\n"

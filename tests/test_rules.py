@@ -123,6 +123,7 @@ class ClassesTest(Checks, unittest.TestCase):
 
     def test_size(self):
         one, other = Comes(SETS[2]), SHORT
+        self.same([kind(of).size for kind, sets, _ in LEAVES.values() for of in sets[:2]], [1] * 10)
         self.same([one.size, Both(one, other).size, Either(one, Not(other)).size, chain(30).size], [1, 3, 4, 30])
         with self.assertRaises(AttributeError):
             one.size = 2
@@ -185,7 +186,8 @@ class EqualTest(Checks, unittest.TestCase):
     def test_equal(self):
         rules = [kind(of) for kind, sets, _ in LEAVES.values() for of in sets]
         rules += [Both(rules[1], rules[2]), Both(rules[2], rules[1]), Either(rules[1], rules[2]), Not(rules[1]),
-                  Not(Not(rules[1])), Both(rules[1], rules[1]), Not(Both(rules[1], rules[2]))]
+                  Not(Not(rules[1])), Both(rules[1], rules[1]), Not(Both(rules[1], rules[2])),
+                  Either(rules[1], rules[1]), Either(rules[2], rules[1]), Either(rules[2], rules[2])]
         for (i, one), (k, other) in itertools.product(enumerate(rules), enumerate(rules)):
             self.same([one == other, one != other], [i == k, i != k])
 

@@ -151,6 +151,14 @@ class FillableTest(Checks, unittest.TestCase):
         self.same(fillable(Book(Lasts(Lengths.of(2, 57))), 0).start, 56)
         self.same(fillable(Book(Lasts(Lengths.of(20, 22))), 0).start, 179)
 
+    def test_start_and_period_just_at_400(self):
+        for numbers, start, period in [((16, 35, 54), 398, 1), ((50, 52, 58), 397, 2), ((25, 28, 47), 399, 1)]:
+            lengths = fillable(Book(Lasts(Lengths.of(*numbers))), 0)
+            self.same((lengths.start, lengths.period), (start, period))
+            self.same(least_form(filled_from(Book(Lasts(Lengths.of(*numbers))), 0, 2000)), (start, period))
+        for numbers in [(11, 41), (18, 52), (45, 55), (22, 42), (21, 41, 52)]:
+            self.refused(TooMany, MANY_LENGTHS, fillable, Book(Lasts(Lengths.of(*numbers))), 0)
+
     def test_size(self):
         self.same([Book(Lasts(Lengths.of(58))).size, Book(Lasts(Lengths.of(59))).size], [60, 61])
         self.same(str(fillable(Book(Lasts(Lengths.of(58))), 3)), "from 0 by 58 at 0")
