@@ -29,16 +29,16 @@ def walked(book, day):
     while True:
         n = len(alone)
         state = (n % turn, recent, distant)
-        if n > start and state in seen:
-            return alone, together, seen[state]
         if n > start:
+            if state in seen:
+                return alone, together, seen[state]
             seen[state] = n
         alone.append(n in rows[0])
         together.append((recent & near[n % turn]) > 0 or (distant & far[n % turn]) > 0)
         recent = recent * 2 + int(alone[n] or together[n])
         if recent >> start > 0:
             recent = recent - (1 << start)
-            distant = distant | (1 << (n - start) % turn)
+            distant = distant | (1 << ((n - start) % turn))
 
 
 def near_marks(rows, start):
