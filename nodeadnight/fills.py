@@ -4,7 +4,6 @@ from nodeadnight.books import check_book
 from nodeadnight.calendars import Calendar
 from nodeadnight.errors import BadCalendar, Dead
 from nodeadnight.flows import Flow
-from nodeadnight.stays import Stay
 
 
 class Paper:
@@ -49,7 +48,7 @@ def fill_of(calendar, book):
     stuck = flow.run()
     if stuck:
         return Bar(days_of(calendar, stuck))
-    return Fill(stays_of(calendar, flow))
+    return Fill(stays_of(calendar, book, flow))
 
 
 def is_sellable(calendar, book):
@@ -62,14 +61,14 @@ def fewest_stays(calendar, book):
     """A Climb with the fewest stays; each let stay climbs at most 1."""
     check_both(calendar, book)
     flow = whole_flow(calendar, book, 1)
-    return Climb(stays_of(calendar, flow), heights_of(calendar, flow.heights))
+    return Climb(stays_of(calendar, book, flow), heights_of(calendar, flow.heights))
 
 
 def most_stays(calendar, book):
     """A Climb with the most stays; each let stay climbs at least 1."""
     check_both(calendar, book)
     flow = whole_flow(calendar, book, -1)
-    return Climb(stays_of(calendar, flow), heights_of(calendar, [-height for height in flow.heights]))
+    return Climb(stays_of(calendar, book, flow), heights_of(calendar, [-height for height in flow.heights]))
 
 
 def climb_of(calendar, heights):
@@ -92,15 +91,24 @@ def check_both(calendar, book):
     check_book(book, "book")
 
 
+def supplies_of(free):
+    """The supplies of the days, from the first one to the after, by the free rooms night by night."""
+    rooms = (0, *free, 0)
+    return [rooms[at + 1] - rooms[at] for at in range(len(rooms) - 1)]
+
+
+def arcs_of(calendar, book, cost):
+    """The let stays within a calendar's days, in order, as arcs of this cost."""
+    first = calendar.first
+    return [(stay.first - first, stay.after - first, cost) for stay in book.let_stays(first, calendar.after)]
+
+
 def flow_of(calendar, book, cost):
     """What let stays within a calendar's days, each of this cost from -1 to 1, can carry from day to day."""
-    first = calendar.first
-    rooms = calendar.free_rooms
-    free = (0, *rooms, 0)
-    supplies = [free[at + 1] - free[at] for at in range(len(free) - 1)]
-    arcs = [(stay.first - first, stay.after - first, cost) for stay in book.let_stays(first, calendar.after)]
+    supplies = supplies_of(calendar.free_rooms)
     # Each stay has a night or more, so these heights climb at most the cost, also if it is -1.
-    return Flow(supplies, arcs, [at * min(int(cost), 0) for at in range(len(supplies))])
+    heights = [at * min(int(cost), 0) for at in range(len(supplies))]
+    return Flow(supplies, arcs_of(calendar, book, cost), heights)
 
 
 def whole_flow(calendar, book, cost):
@@ -117,12 +125,11 @@ def days_of(calendar, places):
     return tuple([calendar.first + place for place in places])
 
 
-def stays_of(calendar, flow):
-    """The stays of what a flow carries, in order, each as often as it is used."""
+def stays_of(calendar, book, flow):
+    """The stays of what a flow carries, in order, each as often as it is used; other arcs may stand behind theirs."""
     stays = []
-    for number, (tail, head, _) in enumerate(flow.arcs):
-        for _ in range(flow.carried[number]):
-            stays.append(Stay(calendar.first + tail, calendar.first + head))
+    for stay, often in zip(list(book.let_stays(calendar.first, calendar.after)), flow.carried):
+        stays.extend([stay for _ in range(often)])
     return tuple(stays)
 
 

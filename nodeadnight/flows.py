@@ -54,12 +54,16 @@ class Flow:
         """The places to which an arc leads on, or leads back what it carries; with the cost beyond the climb."""
         found = []
         for number in self.leaving[place]:
-            _, head, cost = self.arcs[number]
-            found.append((head, cost - self.heights[head] + self.heights[place], number))
+            found.append((self.arcs[number][1], self.beyond(number), number))
         for number in self.coming[place]:
             if self.carried[number] > 0:
                 found.append((self.arcs[number][0], 0, number))
         return found
+
+    def beyond(self, number):
+        """What an arc costs beyond its climb."""
+        tail, head, cost = self.arcs[number]
+        return cost - self.heights[head] + self.heights[tail]
 
     def climb(self, costs, most):
         """Lifts the heights, so that the cheapest way costs nothing beyond its climb."""

@@ -3,7 +3,7 @@
 import unittest
 
 EXAMPLES = {
-    "lengths": """
+    "lengths": r"""
 >>> from nodeadnight.lengths import Lengths
 >>> long, even = Lengths.since(3), Lengths.steps(0, 2)
 >>> [str(long), str(even), str(long & even), str(long | Lengths.of(0, 1)), str(~even), str(~long), str(Lengths(9, [4, 8, 4], 4, [0]))]
@@ -15,7 +15,7 @@ raises BadText(0, 0)
 >>> Lengths(2, [2])
 raises BadLengths('low')
 """,
-    "days": """
+    "days": r"""
 >>> from nodeadnight.days import Days
 >>> fri, sat = Days.on(7, 5), Days.on(7, 6)
 >>> [str(fri | sat), fri >> 1 == sat, str(~Days.on(2, 0)), -2 in fri, sat.following(7), str(Days(4, [1, 3])), str(Days.on(2, 0) | Days.on(2, 1))]
@@ -23,7 +23,7 @@ raises BadLengths('low')
 >>> Days.on(3, 0) & Days.on(7, 0)
 raises TooMany('days', 7)
 """,
-    "stays": """
+    "stays": r"""
 >>> from nodeadnight.stays import Stay
 >>> week = Stay(3, 10)
 >>> [str(week), len(week), list(Stay(3, 6)), 9 in week, 10 in week, [str(part) for part in week // 5], str(week << 5), week.meets(Stay(10, 12)), Stay.read("3+7") == week]
@@ -33,7 +33,7 @@ raises BadStay('day')
 >>> Stay.read("3+07")
 raises BadText(0, 0)
 """,
-    "rules": """
+    "rules": r"""
 >>> from nodeadnight.rules import Both, Comes, DayRule, Goes, Holds, Lasts, NightRule, Not, Within
 >>> short = Lasts(Lengths.of(1))
 >>> no_lone_saturday = ~(Holds(Days.on(7, 6)) & short)
@@ -44,7 +44,7 @@ raises BadText(0, 0)
 >>> Comes(7)
 raises BadRule('days')
 """,
-    "books": """
+    "books": r"""
 >>> from nodeadnight.books import Book
 >>> book = Book(Lasts(Lengths.since(2)) | Comes(Days.on(7, 1)))
 >>> [book.round, str(book.lengths_on(0)), str(book.lengths_on(8)), Stay(1, 2) in book, book(Stay(2, 3)), book.lets(0, 10 ** 30), "3+4" in book]
@@ -57,7 +57,7 @@ raises BadRule('days')
 >>> Book(Comes(Days.on(5, 0)) & Goes(Days.on(3, 0)))
 raises TooMany('round', 7)
 """,
-    "stretches": """
+    "stretches": r"""
 >>> from nodeadnight.stretches import Stretch, alive, fewest, fillable, is_live, most, row_of, rows_of, ways
 >>> threes = Book(Lasts(Lengths.of(3, 4)))
 >>> [str(fillable(threes, 0)), fillable(threes, 0).last_gap, [str(stay) for stay in row_of(threes, 10, 7)], row_of(threes, 0, 5), row_of(threes, 0, 0), fewest(threes, 0, 12), most(threes, 0, 12), ways(threes, 0, 11)]
@@ -68,12 +68,12 @@ raises TooMany('round', 7)
 >>> [str(part) for part in Stretch(2, None) - Stay(4, 6)]
 ['2+2', '6+']
 """,
-    "primes": """
+    "primes": r"""
 >>> from nodeadnight.primes import alike, missing, primes
 >>> [str(primes(Book(Lasts(Lengths.since(2)))).lengths_on(0)), str(primes(book).lengths_on(0)), str(primes(book).lengths_on(1)), alike(book, primes(book)), missing(threes, Book(Lasts(Lengths.since(3)))), missing(Book(Lasts(Lengths.since(2))), threes)]
 ['2 3', '2 3', '1 2', True, (0, 5), None]
 """,
-    "calendars": """
+    "calendars": r"""
 >>> from nodeadnight.calendars import Calendar
 >>> inn = Calendar(2, 0, 3)
 >>> inn["ann"], inn["bo"] = Stay(0, 2), Stay(2, 3)
@@ -88,7 +88,7 @@ raises NoGuest('cy')
 >>> inn.with_rooms(1).free_rooms
 (0, 0, 0)
 """,
-    "fills": """
+    "fills": r"""
 >>> from nodeadnight.fills import Bar, Climb, Fill, climb_of, fewest_stays, fill_of, is_sellable, most_stays
 >>> pairs_and_threes = Book(Lasts(Lengths.of(2, 3)))
 >>> [fill_of(inn, pairs_and_threes) == Fill((Stay(0, 3),)), is_sellable(Calendar(2, 0, 5), threes), fill_of(Calendar(1, 0, 1), threes) == Bar((0,))]
@@ -100,7 +100,31 @@ raises NoGuest('cy')
 >>> climb_of(odd, {0: 0, 1: 0, 2: -1, 3: 0})
 1
 """,
-    "doors": """
+    "gifts": r"""
+>>> from nodeadnight.gifts import fewest_gifts
+>>> given = fewest_gifts(odd, pairs_and_threes)
+>>> [len(given.nights), climb_of(odd, given.heights), fewest_gifts(Calendar(1, 0, 5), Book(Lasts(Lengths.of(2)))).nights in ((0,), (2,), (4,)), fewest_gifts(inn, pairs_and_threes).nights]
+[1, 1, True, ()]
+""",
+    "ranges": r"""
+>>> from nodeadnight.ranges import NoRooms, Rooms, rooms_for
+>>> twos = Book(Lasts(Lengths.of(2)))
+>>> full = Calendar(1, 0, 3)
+>>> full["ann"], full["bo"] = Stay(0, 1), Stay(1, 3)
+>>> [rooms_for(full, twos) == Rooms(1, 1, None, (0, 2), ((),)), rooms_for(Calendar(1, 0, 3), twos) == NoRooms(None, (0, 2), None), rooms_for(Calendar(1, 0, 4), twos).upper == (Stay(0, 2), Stay(2, 4))]
+[True, True, True]
+""",
+    "wishes": r"""
+>>> from nodeadnight.wishes import Lot, best_lot, can_take, fates
+>>> four = Calendar(1, 0, 4)
+>>> asked = [(Stay(0, 2), 3), (Stay(1, 3), 5), (Stay(2, 4), 0)]
+>>> lot = best_lot(four, twos, asked)
+>>> [0 in lot.taken, 1 in lot.taken, lot.worth, fates(four, twos, asked), can_take(four, twos, [Stay(0, 2), Stay(2, 4)]), can_take(four, twos, [Stay(1, 3)])]
+[True, False, 3, ['all', 'none', 'some'], True, False]
+>>> best_lot(four, twos, [(Stay(0, 3), 1)])
+raises BadWish(0)
+""",
+    "doors": r"""
 >>> from nodeadnight.doors import Ahead, All, Behind, Lets, No, Some, Weakest
 >>> rest = Lengths.of(0) | Lengths.since(3)
 >>> clerk, week8 = Ahead(rest) & Behind(rest), Stretch(0, 8)
@@ -110,6 +134,13 @@ raises NoGuest('cy')
 ['all 2 ahead 0 from 3 by 1 at 0 behind endless 0 from 3 by 1 at 0', 4, True, False]
 >>> clerk(week8, Stay(7, 9))
 raises Outside
+""",
+    "judge": r"""
+>>> from nodeadnight.judge import Case, Story, Table, is_safe, parted, story, thumb
+>>> [parted(clerk, Weakest(threes), threes) == Case(Stretch(0, 8), Stay(0, 3)), thumb(threes), thumb(twos), is_safe(Weakest(threes), threes)]
+[True, 6, None, True]
+>>> [story(clerk, threes, Stretch(0, 8)).stays in ((Stay(0, 3),), (Stay(5, 8),)), story(clerk, threes, Stretch(0, 7)) == Table((Stretch(0, 3), Stretch(0, 4), Stretch(0, 7), Stretch(3, 4), Stretch(4, 3)))]
+[True, True]
 """,
     "reader": """
 >>> from nodeadnight.reader import read_book, read_calendar, read_door, read_rule

@@ -14,97 +14,13 @@ from nodeadnight.lengths import Lengths
 from nodeadnight.rules import Comes, Lasts
 from nodeadnight.days import Days
 from nodeadnight.stays import Stay
-from rows import some_book
+from papers import SMALL, TINY, Papers, fills_by_hand, spans_of, with_guests
 from values import LAST, VALUES, Checks, none_of, shuffled
 
 TWOS = Book(Lasts(Lengths.of(2)))
 PAIRS_AND_THREES = Book(Lasts(Lengths.of(2, 3)))
 
 WORKS = [fill_of, is_sellable, fewest_stays, most_stays]
-
-
-def place(stay):
-    return stay.first, len(stay)
-
-
-def name_of(number):
-    return "".join("abcdefghij"[int(sign)] for sign in str(number))
-
-
-def with_guests(source, calendar, many, longest):
-    """Puts as many guests as find a room into a calendar."""
-    for number in range(many):
-        day = source.randrange(calendar.first, calendar.after)
-        stay = Stay(day, min(calendar.after, day + source.randint(1, longest)))
-        if all(calendar.free(night) for night in stay):
-            calendar[name_of(number)] = stay
-    return calendar
-
-
-def small(source):
-    """A small calendar and a book of one or several days of a round."""
-    first = source.choice([0, 0, -9, 10 ** 11, -LAST, LAST - 12])
-    calendar = Calendar(source.randint(1, 4), first, first + source.randint(1, 12))
-    with_guests(source, calendar, source.choice([0, 0, 2, 5, 9]), source.choice([1, 2, 4]))
-    book = some_book(source) if source.random() < 0.6 else Book.by_days(
-        *[Lengths.of(*source.sample(range(1, 7), source.randint(1, 3))) for _ in range(source.randint(1, 3))])
-    return calendar, book
-
-
-def tiny(source):
-    first = source.choice([0, 3, -5])
-    calendar = Calendar(source.randint(1, 2), first, first + source.randint(1, 6))
-    with_guests(source, calendar, source.choice([0, 1, 3]), source.choice([1, 2, 4]))
-    rows = [Lengths.of(*source.sample(range(1, 5), source.randint(1, 3))) for _ in range(source.randint(1, 2))]
-    return calendar, Book.by_days(*rows)
-
-
-SMALL = shuffled(91, 400, small)
-TINY = shuffled(92, 150, tiny)
-
-
-def fills_by_hand(free, stays):
-    """The numbers of stays of all fills: which let stays lie over each night just as often as a room is free."""
-    if not any(free):
-        return {0}
-    night = next(at for at, many in enumerate(free) if many)
-    found = set()
-    # Some stay of each fill begins on the first night that is not filled: whichever came earlier is there already.
-    for first, after in stays:
-        if first == night and all(free[at] for at in range(first, after)):
-            left = tuple(many - (first <= at < after) for at, many in enumerate(free))
-            found |= {1 + many for many in fills_by_hand(left, stays)}
-    return found
-
-
-class Papers(Checks):
-    """Mixed into a TestCase: checks of papers by the words of the document."""
-
-    def is_fill(self, calendar, book, stays):
-        self.assertIs(type(stays), tuple)
-        self.assertTrue(all(stay in book and stay.first >= calendar.first and stay.after <= calendar.after
-                            for stay in stays))
-        self.assertEqual([place(stay) for stay in stays], sorted(place(stay) for stay in stays))
-        for night in range(calendar.first, calendar.after):
-            self.assertEqual(sum(night in stay for stay in stays), calendar.free(night))
-
-    def is_bar(self, calendar, book, days):
-        self.assertIs(type(days), tuple)
-        self.same(list(days), sorted(set(days)))
-        self.assertTrue(all(type(day) is int and calendar.first <= day <= calendar.after for day in days))
-        for stay in book.let_stays(calendar.first, calendar.after):
-            self.assertTrue(stay.first not in days or stay.after in days)
-        self.assertGreater(sum(calendar.supply(day) for day in days), 0)
-
-    def is_climb(self, calendar, book, paper, least, greatest):
-        self.assertIs(type(paper), Climb)
-        self.is_fill(calendar, book, paper.stays)
-        self.same(sorted(paper.heights), list(range(calendar.first, calendar.after + 1)))
-        self.assertTrue(all(type(height) is int for height in paper.heights.values()))
-        for stay in book.let_stays(calendar.first, calendar.after):
-            climbed = paper.heights[stay.after] - paper.heights[stay.first]
-            self.assertTrue(least <= climbed <= greatest)
-        self.same(climb_of(calendar, paper.heights), len(paper.stays))
 
 
 class PapersTest(Papers, unittest.TestCase):
@@ -132,9 +48,7 @@ class PapersTest(Papers, unittest.TestCase):
 
     def test_against_all_fills(self):
         for calendar, book in TINY:
-            stays = [(stay.first - calendar.first, stay.after - calendar.first)
-                     for stay in book.let_stays(calendar.first, calendar.after)]
-            numbers = fills_by_hand(calendar.free_rooms, stays)
+            numbers = fills_by_hand(calendar.free_rooms, spans_of(calendar, book))
             self.same(is_sellable(calendar, book), len(numbers) > 0)
             if numbers:
                 self.same(len(fewest_stays(calendar, book).stays), min(numbers))

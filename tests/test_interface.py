@@ -9,6 +9,7 @@ CLASSES = {
     "rules": ["Rule", "DayRule", "NightRule", "LengthRule", "Comes", "Goes", "Holds", "Within", "Lasts", "Both",
               "Either", "Not"],
     "calendars": ["Calendar"], "fills": ["Paper", "Fill", "Bar", "Climb"],
+    "gifts": ["Gifts"], "ranges": ["Rooms", "NoRooms"], "wishes": ["Lot"], "judge": ["Case", "Story", "Table"],
     "doors": ["Door", "Ahead", "Behind", "Lets", "Weakest", "All", "Some", "No"],
 }
 
@@ -22,6 +23,15 @@ FUNCTIONS = {
     "fills": {
         "fill_of": "(calendar, book)", "is_sellable": "(calendar, book)", "fewest_stays": "(calendar, book)",
         "most_stays": "(calendar, book)", "climb_of": "(calendar, heights)",
+    },
+    "gifts": {"fewest_gifts": "(calendar, book)"},
+    "ranges": {"rooms_for": "(calendar, book)"},
+    "wishes": {
+        "best_lot": "(calendar, book, wishes)", "fates": "(calendar, book, wishes)",
+        "can_take": "(calendar, book, stays)",
+    },
+    "judge": {
+        "parted": "(one, other, book)", "is_safe": "(door, book)", "thumb": "(book)", "story": "(door, book, stretch)",
     },
     "reader": {"read_rule": "(text)", "read_door": "(text)", "read_book": "(text)", "read_calendar": "(text)"},
 }

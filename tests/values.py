@@ -8,16 +8,22 @@ from nodeadnight.days import Days
 from nodeadnight.doors import All, Weakest
 from nodeadnight.errors import BadCount, TooMany
 from nodeadnight.fills import Bar, Climb, Fill
+from nodeadnight.gifts import Gifts
+from nodeadnight.judge import Case, Story, Table
 from nodeadnight.lengths import Lengths
+from nodeadnight.ranges import NoRooms, Rooms
 from nodeadnight.rules import Comes, Lasts, Not
 from nodeadnight.stays import Stay
 from nodeadnight.stretches import Stretch
+from nodeadnight.wishes import Lot
 
 # Objects of the package that are made only to be passed where they do not belong.
 OBJECTS = [
     Lengths.of(1), Days.every(), Stay(0, 1), Comes(Days.every()), Lasts(Lengths.every()), Not(Comes(Days.none())),
     Book.every(), Book.none(), Stretch(0, 1), Stretch(0, None), Calendar(1, 0, 1), Fill(()), Bar((0,)),
-    Climb((), {0: 0, 1: 0}), All(), Weakest(Book.every()), BadCount(1), TooMany("rules", 30),
+    Climb((), {0: 0, 1: 0}), Gifts((), (0,), {0: 0, 1: 1}), Rooms(1, None, None, (Stay(0, 1),), ((Stay(0, 1),),)),
+    NoRooms(None, (0,), None), Lot((), (Stay(0, 1),), {0: 0, 1: 0}, 0), Case(Stretch(0, 3), Stay(0, 3)),
+    Story((Stay(0, 1),)), Table((Stretch(0, 1),)), All(), Weakest(Book.every()), BadCount(1), TooMany("rules", 30),
 ]
 
 # Values that are no integers, of every kind that may be passed as any value.
@@ -84,6 +90,22 @@ class Checks:
         """Checks that an object equals none of the other values, from both sides."""
         for other in others:
             self.same([one == other, other == one, one != other, other != one], [False, False, True, True])
+
+    def holds(self, kind, names):
+        """Checks a class of papers: its attributes, made by position and by name, and what equals what."""
+        for value in VALUES:
+            # Each attribute has a value of its own, so that none of them can stand in the place of another one.
+            told = {name: [name, value] for name in names}
+            by_place, by_name = kind(*told.values()), kind(**dict(reversed(list(told.items()))))
+            for paper in [by_place, by_name]:
+                for name in names:
+                    self.assertIs(getattr(paper, name), told[name])
+            self.same([by_place == by_name, by_place != by_name], [True, False])
+            for name in names:
+                other = kind(**{**told, name: [name, value, None]})
+                self.same([by_place == other, other == by_place, by_place != other], [False, False, True])
+                tuples = kind(**{**told, name: (name, value)})
+                self.same([by_place == tuples, by_place != tuples], [False, True])
 
     def defines(self, kind, names):
         """Checks that a class has these methods in its own body, as the interface asks."""
