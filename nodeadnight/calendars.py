@@ -39,17 +39,9 @@ class Calendar:
         return tuple(rooms)
 
     def __setitem__(self, at, worth):
-        if not is_name(at):
-            raise BadName(at)
-        if at in self:
-            raise Taken(at)
-        check_stay(worth)
-        if worth.first < self.first or worth.after > self.after:
-            raise Outside(worth)
-        free = self.free_rooms
-        for night in worth:
-            if free[night - self.first] == 0:
-                raise Full(night)
+        check_new(self, at)
+        check_within(self, worth)
+        check_free(self, worth)
         if len(self._stays) >= Calendar.GUESTS:
             raise TooMany("guests", Calendar.GUESTS)
         self._stays[at] = worth
@@ -150,6 +142,37 @@ class Trial:
     def __exit__(self, kind, value, trace):
         calendar = self.calendar
         calendar._stays = self.kept
+
+
+def check_new(calendar, name):
+    """Refuses any value that is no name, and one of a guest."""
+    if not is_name(name):
+        raise BadName(name)
+    if name in calendar:
+        raise Taken(name)
+
+
+def check_within(calendar, stay):
+    """Refuses any value that is no stay within the days of a calendar."""
+    check_stay(stay)
+    if stay.first < calendar.first or stay.after > calendar.after:
+        raise Outside(stay)
+
+
+def check_free(calendar, stay):
+    """Refuses a stay with a night on which no room is free."""
+    free = calendar.free_rooms
+    for night in stay:
+        if free[night - calendar.first] == 0:
+            raise Full(night)
+
+
+def with_change(calendar, name, stay):
+    """A calendar in which a guest has another stay, at the same place among the names."""
+    changed = calendar.twin()
+    # A name that is there keeps its place.
+    changed._stays[name] = stay
+    return changed
 
 
 def parts_of(calendar):

@@ -65,6 +65,16 @@ class Flow:
         tail, head, cost = self.arcs[number]
         return cost - self.heights[head] + self.heights[tail]
 
+    def reached(self, place):
+        """The places to which steps that cost nothing beyond their climb lead from a place, itself among them."""
+        came, at = [place], 0
+        while at < len(came):
+            for end, beyond, _ in self.links_from(came[at]):
+                if beyond == 0 and end not in came:
+                    came.append(end)
+            at = at + 1
+        return came
+
     def climb(self, costs, most):
         """Lifts the heights, so that the cheapest way costs nothing beyond its climb."""
         for place in range(len(self.heights)):

@@ -184,14 +184,12 @@ def first_sale(told, refused, day, nights, reach):
 
 
 def sales_in(sight, place):
-    """The stays that are sold in a stretch, and with each one the stretches that are left; by day and nights."""
+    """Yields the stays that are sold in a stretch, each with the stretches that are left; these by day and nights."""
     day, nights = place
-    found = []
     for gap in range(nights):
         for many in members_of(sight.sold_on(day, nights, gap)):
             first = day + gap
-            found.append((Stay(first, first + many), ((day, gap), (first + many, nights - gap - many))))
-    return found
+            yield Stay(first, first + many), ((day, gap), (first + many, nights - gap - many))
 
 
 def stays_to(place, links):

@@ -1,11 +1,10 @@
 """Reads the texts of rules, doors, books and calendars."""
 
-from nodeadnight.basics import LAST_DAY, is_name
+from nodeadnight.basics import LAST_DAY
 from nodeadnight.calendars import Calendar
 from nodeadnight.doors import Ahead, All, Behind, Door, Lets, No, Some, Weakest
 from nodeadnight.errors import BadText
 from nodeadnight.rules import Both, Comes, Either, Goes, Holds, Lasts, Not, Within
-from nodeadnight.stays import Stay
 from nodeadnight.words import Words, take_book, take_days, take_lengths
 
 RULE_WORDS = ("comes", "goes", "holds", "within", "lasts", "and", "or", "not")
@@ -163,15 +162,6 @@ def take_calendar(words):
 def take_guest(words, last):
     """Takes the line of a guest with a name above the last one, and returns the name and the stay."""
     words.take(("guest",))
-    name = words.ahead()
-    if not is_name(name) or name <= last:
-        raise BadText(words.line, words.place)
-    words.take((name,))
-    word = words.ahead()
-    try:
-        stay = Stay.read(word)
-    except BadText:
-        raise BadText(words.line, words.place) from None
-    words.take((word,))
+    name, stay = words.take_name(last), words.take_stay()
     words.check_end()
     return name, stay

@@ -110,19 +110,8 @@ def fate_of(flow, mark):
     taken = flow.carried[mark] > 0
     begin, end = flow.arcs[mark][0], flow.arcs[mark + 1][0]
     # Another best lot comes of a way around on which no step costs anything beyond its climb.
-    if taken and flow.beyond(mark + 1) == 0 and leads(flow, begin, end):
+    if taken and flow.beyond(mark + 1) == 0 and end in flow.reached(begin):
         return "some"
-    if not taken and flow.beyond(mark) == 0 and leads(flow, end, begin):
+    if not taken and flow.beyond(mark) == 0 and begin in flow.reached(end):
         return "some"
     return "all" if taken else "none"
-
-
-def leads(flow, begin, end):
-    """Whether steps that cost nothing beyond their climb lead from a place to another one."""
-    came, at = [begin], 0
-    while at < len(came):
-        for place, beyond, _ in flow.links_from(came[at]):
-            if beyond == 0 and place not in came:
-                came.append(place)
-        at = at + 1
-    return end in came

@@ -1,10 +1,11 @@
 """The words of a line, taken one after another, and the sets that they tell of."""
 
-from nodeadnight.basics import read_number
+from nodeadnight.basics import is_name, read_number
 from nodeadnight.books import Book
 from nodeadnight.days import Days
 from nodeadnight.errors import BadText, TooMany
 from nodeadnight.lengths import Lengths
+from nodeadnight.stays import Stay
 
 GREATEST = 399
 
@@ -44,6 +45,23 @@ class Words:
         self.place = self.place + 1
         return number
 
+    def take_name(self, last):
+        """Takes the next word, a name above the last one, and returns it."""
+        name = self.ahead()
+        if not is_name(name) or name <= last:
+            raise BadText(self.line, self.place)
+        self.place = self.place + 1
+        return name
+
+    def take_stay(self):
+        """Takes the next word, the text of a Stay, and returns the Stay."""
+        try:
+            stay = Stay.read(self.ahead())
+        except BadText:
+            raise BadText(self.line, self.place) from None
+        self.place = self.place + 1
+        return stay
+
     def take_numbers(self, least, most):
         """Takes all figures that stand next, ascending numbers from least to most, one of them at the least."""
         numbers = [self.take_number(least, most)]
@@ -56,9 +74,13 @@ class Words:
         if " ".join(self.words[begin:self.place]) != text:
             raise BadText(self.line, begin)
 
+    def is_at_end(self):
+        """Whether all words are taken."""
+        return self.place == len(self.words)
+
     def check_end(self):
         """Refuses a word too many."""
-        if self.place < len(self.words):
+        if not self.is_at_end():
             raise BadText(self.line, self.place)
 
 

@@ -6,6 +6,13 @@ from nodeadnight.errors import BadLengths, TooMany
 from nodeadnight.lengths import Lengths
 
 FIGURES = [str(n) for n in range(401)]
+LAST_DAY = 10 ** 12 - 1
+
+# The lines of a desk as the document's table has them.
+LINES = [line.split() for line in [
+    "open R D D BOOK", "sell N S", "change N S", "cancel N", "book BOOK", "rooms R", "undo", "free", "guests",
+    "sells S", "offers", "best S W", "numbers",
+]]
 
 
 class Wrong(Exception):
@@ -138,3 +145,60 @@ def wrong_word(text, part_at):
     except Wrong as wrong:
         return wrong.args[0]
     return at if at < len(words) else None
+
+
+def integer_at(words, at, least, most):
+    """The place behind a number as str writes it, of up to twelve digits."""
+    word = word_at(words, at)
+    digits = word[1:] if word and word.startswith("-") else word
+    if not word or len(digits) > 12 or not is_figures(digits) or str(int(word)) != word:
+        raise Wrong(at)
+    if not least <= int(word) <= most:
+        raise Wrong(at)
+    return at + 1
+
+
+def guest_at(words, at):
+    word = word_at(words, at)
+    if not word or len(word) > 8 or not all(sign in "abcdefghijklmnopqrstuvwxyz" for sign in word):
+        raise Wrong(at)
+    return at + 1
+
+
+def stay_at(words, at):
+    first, sign, nights = (word_at(words, at) or "").partition("+")
+    try:
+        integer_at([first, nights], 0, -LAST_DAY, LAST_DAY)
+        integer_at([first, nights], 1, 1, 400)
+    except Wrong:
+        raise Wrong(at) from None
+    if sign != "+" or int(first) + int(nights) > LAST_DAY:
+        raise Wrong(at)
+    return at + 1
+
+
+def value_at(words, at, kind):
+    if kind == "BOOK":
+        return book_at(words, at)
+    if kind in "NS":
+        return guest_at(words, at) if kind == "N" else stay_at(words, at)
+    return integer_at(words, at, *{"R": (1, 12), "D": (-LAST_DAY, LAST_DAY), "W": (0, 10 ** 9)}[kind])
+
+
+def line_at(words, at):
+    """The place behind a line for a desk, by the forms of the document's table."""
+    for word, *kinds in LINES:
+        if word_at(words, at) == word:
+            break
+    else:
+        raise Wrong(at)
+    at += 1
+    for kind in kinds:
+        at = value_at(words, at, kind)
+    if word == "best":
+        pairs = 1
+        while pairs < 8 and at < len(words):
+            at = stay_at(words, at)
+            at = value_at(words, at, "W")
+            pairs += 1
+    return at

@@ -1,16 +1,21 @@
 """Calendars with guests to try papers with, all fills by hand, and checks of papers by the words of the document."""
 
 import functools
+import itertools
 
 from nodeadnight.books import Book
 from nodeadnight.calendars import Calendar
-from nodeadnight.fills import Climb, climb_of
+from nodeadnight.fills import Bar, Climb, Fill, climb_of
+from nodeadnight.gifts import Gifts
 from nodeadnight.lengths import Lengths
+from nodeadnight.ranges import NoRooms, Rooms
 from nodeadnight.stays import Stay
+from nodeadnight.wishes import Lot
 from rows import some_book
 from values import LAST, Checks, shuffled
 
-FAR = 10 ** 12
+# More than all that is climbed, also by integers of any size.
+FAR = 10 ** 70
 
 
 def place(stay):
@@ -89,6 +94,22 @@ def is_filled_by_hand(free, spans):
     return min(free) >= 0 and len(fills_by_hand(tuple(free), spans)) > 0
 
 
+def guests_of(calendar):
+    return [calendar.rooms - free for free in calendar.free_rooms]
+
+
+def number_of(calendar, days):
+    """The number of a set of days, as the document tells it."""
+    stays = [stay for _, stay in calendar.guests()]
+    return sum(stay.after in days for stay in stays) - sum(stay.first in days for stay in stays)
+
+
+def left_behind(calendar, stays):
+    """The free rooms night by night behind the sale of stays."""
+    return [calendar.free(night) - sum(night in stay for stay in stays)
+            for night in range(calendar.first, calendar.after)]
+
+
 class Papers(Checks):
     """Mixed into a TestCase: checks of papers by the words of the document."""
 
@@ -129,3 +150,89 @@ class Papers(Checks):
         self.is_fill(calendar, book, paper.stays)
         self.are_heights(calendar, book, paper.heights, least, greatest)
         self.same(climb_of(calendar, paper.heights), len(paper.stays))
+
+    def is_fill_paper(self, calendar, book, paper):
+        self.assertIs(type(paper), Fill)
+        self.is_fill(calendar, book, paper.stays)
+
+    def is_bar_paper(self, calendar, book, paper):
+        self.assertIs(type(paper), Bar)
+        self.is_bar(calendar, book, paper.days)
+
+    def is_gifts(self, calendar, book, paper):
+        self.assertIs(type(paper), Gifts)
+        self.assertIs(type(paper.nights), tuple)
+        self.assertTrue(all(type(night) is int for night in paper.nights))
+        self.same(list(paper.nights), sorted(paper.nights))
+        nights = range(calendar.first, calendar.after)
+        self.assertLessEqual(set(paper.nights), set(nights))
+        left = [calendar.free(night) - paper.nights.count(night) for night in nights]
+        self.fills_rooms(calendar, book, paper.stays, left)
+        self.are_heights(calendar, book, paper.heights, -FAR, 0)
+        self.assertTrue(all(paper.heights[night + 1] - paper.heights[night] <= 1 for night in nights))
+        self.same(climb_of(calendar, paper.heights), len(paper.nights))
+
+    def is_range(self, calendar, book, paper):
+        """Checks a Rooms or a NoRooms."""
+        if type(paper) is Rooms:
+            self.is_rooms(calendar, book, paper)
+        else:
+            self.assertIs(type(paper), NoRooms)
+            self.is_no_rooms(calendar, book, paper)
+
+    def is_side(self, calendar, book, days, has_first, has_after):
+        self.is_closed(calendar, book, days)
+        self.same([calendar.first in days, calendar.after in days], [has_first, has_after])
+
+    def is_rooms(self, calendar, book, paper):
+        self.assertIs(type(paper.fewest), int)
+        self.assertGreaterEqual(paper.fewest, 1)
+        if paper.fewest == 1:
+            self.same(paper.lower, None)
+        else:
+            self.is_side(calendar, book, paper.lower, False, True)
+            self.same(number_of(calendar, paper.lower), paper.fewest)
+        numbers = [paper.fewest]
+        if paper.most is None:
+            self.is_row(calendar, book, paper.upper)
+        else:
+            self.assertIs(type(paper.most), int)
+            self.is_side(calendar, book, paper.upper, True, False)
+            self.same(number_of(calendar, paper.upper), -paper.most)
+            self.assertGreaterEqual(paper.most, paper.fewest)
+            numbers = sorted({paper.fewest, paper.most})
+        self.assertIs(type(paper.filled), tuple)
+        self.same(len(paper.filled), len(numbers))
+        for stays, rooms in zip(paper.filled, numbers):
+            self.fills_rooms(calendar, book, stays, [rooms - many for many in guests_of(calendar)])
+
+    def is_row(self, calendar, book, row):
+        self.assertIs(type(row), tuple)
+        self.assertTrue(all(type(stay) is Stay and stay in book for stay in row))
+        self.same([row[0].first, row[-1].after], [calendar.first, calendar.after])
+        self.assertTrue(all(one.after == other.first for one, other in itertools.pairwise(row)))
+
+    def is_no_rooms(self, calendar, book, paper):
+        if paper.both is not None:
+            self.same([paper.lower, paper.upper], [None, None])
+            self.is_closed(calendar, book, paper.both)
+            self.same(calendar.first in paper.both, calendar.after in paper.both)
+            self.assertGreater(number_of(calendar, paper.both), 0)
+            return
+        self.is_side(calendar, book, paper.upper, True, False)
+        least = 1
+        if paper.lower is not None:
+            self.is_side(calendar, book, paper.lower, False, True)
+            least = number_of(calendar, paper.lower)
+        self.assertLess(-number_of(calendar, paper.upper), least)
+
+    def is_lot(self, calendar, book, wishes, paper):
+        self.assertIs(type(paper), Lot)
+        self.assertIs(type(paper.taken), tuple)
+        self.assertTrue(all(type(at) is int and 0 <= at < len(wishes) for at in paper.taken))
+        self.same(list(paper.taken), sorted(set(paper.taken)))
+        self.fills_rooms(calendar, book, paper.stays, left_behind(calendar, [wishes[at][0] for at in paper.taken]))
+        self.same(paper.worth, sum(wishes[at][1] for at in paper.taken))
+        self.are_heights(calendar, book, paper.heights, 0, FAR)
+        beyond = [worth - paper.heights[stay.after] + paper.heights[stay.first] for stay, worth in wishes]
+        self.same(climb_of(calendar, paper.heights) + sum(max(0, more) for more in beyond), paper.worth)

@@ -1,4 +1,4 @@
-"""Every example of the document about the modules that are there, word for word."""
+"""Every example of the document, word for word."""
 
 import unittest
 
@@ -142,16 +142,53 @@ raises Outside
 >>> [story(clerk, threes, Stretch(0, 8)).stays in ((Stay(0, 3),), (Stay(5, 8),)), story(clerk, threes, Stretch(0, 7)) == Table((Stretch(0, 3), Stretch(0, 4), Stretch(0, 7), Stretch(3, 4), Stretch(4, 3)))]
 [True, True]
 """,
-    "reader": """
+    "houses": r"""
+>>> from nodeadnight.houses import House
+>>> house = House(pairs_and_threes, 1, 0, 5)
+>>> [[str(stay) for stay in house.offers()], house.sells(Stay(1, 3)), house.sells(Stay(0, 4))]
+[['0+2', '0+3', '2+3', '3+2'], False, False]
+>>> house["ann"] = Stay(0, 3)
+>>> house.sell("bo", Stay(2, 5))
+raises Full(2)
+>>> house.change("ann", Stay(0, 2))
+>>> [[str(stay) for stay in house.offers()], house.deeds, house.undo(), str(house["ann"]), house.fill_now() == Fill((Stay(3, 5),))]
+[['2+3'], 2, 'change', '0+3', True]
+>>> House(threes, 2, 0, 5)
+raises Dead((0, 3, 4))
+""",
+    "lookers": r"""
+>>> from nodeadnight.gifts import Gifts
+>>> from nodeadnight.lookers import Looker, Watcher
+>>> look = Looker(odd, pairs_and_threes)
+>>> [look.bars(Bar((2,))), look.bars(Bar((0, 2, 3))), look.fills(Fill(())), look.gives(given), look.climbs(Climb((), {}), "fewest"), look.ranges(rooms_for(odd, pairs_and_threes))]
+[True, False, False, True, False, True]
+>>> watch = Watcher(clerk, threes)
+>>> [watch.tells(Story((Stay(5, 8),)), Stretch(0, 8)), watch.tells(Story((Stay(0, 4),)), Stretch(0, 8)), watch.closed(Table((Stretch(0, 3),)), Stretch(0, 3)), watch.closed(Table(()), Stretch(0, 3))]
+[True, False, True, False]
+""",
+    "reader": r"""
 >>> from nodeadnight.reader import read_book, read_calendar, read_door, read_rule
+>>> from nodeadnight.texts import calendar_text
+>>> [read_rule(str(no_lone_saturday)) == no_lone_saturday, read_door(str(clerk)) == clerk, read_book("day 3 4") == threes, calendar_text(odd), read_calendar(calendar_text(inn)) == inn]
+[True, True, True, 'calendar 2 0 3\nguest ann 0+2', True]
 >>> read_rule("and comes by 7 at 5")
 raises BadText(0, 6)
 >>> read_rule("lasts 2 3 from 4 by 1 at 0")
 raises BadText(0, 1)
 >>> read_door("all 1 ahead 1 2 1")
 raises BadText(0, 5)
->>> read_calendar("calendar 1 0 4\\nguest bo 0+2\\nguest al 2+2")
+>>> read_calendar("calendar 1 0 4\nguest bo 0+2\nguest al 2+2")
 raises BadText(2, 1)
+""",
+    "desk": r"""
+>>> from nodeadnight.desk import Desk
+>>> desk = Desk()
+>>> desk.run("open 1 0 5 day 2 3", "sell ann 0+2", "offers", "free", "numbers", "best 2+3 7", "undo", "guests")
+['ok', 'ok', '2+3', '0 0 1 1 1', '1 -', '7 all', 'sell', 'none']
+>>> [desk("sells 1+2"), desk("rooms 2"), desk("free")]
+['no', 'ok', '2 2 2 2 2']
+>>> desk("sell ann 0+02")
+raises BadLine(2)
 """,
 }
 
@@ -175,7 +212,8 @@ def outcome(line, names, told):
         exec(line, names)
         return ""
     try:
-        return repr(eval(code, names))
+        value = eval(code, names)
+        return "" if value is None else repr(value)
     except ValueError as error:
         # Of some errors the document tells the class alone.
         return f"raises {type(error).__name__}" if told == f"raises {type(error).__name__}" else f"raises {error!r}"

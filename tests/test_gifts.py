@@ -7,12 +7,12 @@ import unittest
 from nodeadnight.books import Book
 from nodeadnight.calendars import Calendar
 from nodeadnight.errors import BadBook, BadCalendar
-from nodeadnight.fills import Paper, climb_of, is_sellable
+from nodeadnight.fills import Paper, is_sellable
 from nodeadnight.gifts import Gifts, fewest_gifts
 from nodeadnight.lengths import Lengths
 from nodeadnight.rules import Lasts
 from nodeadnight.stays import Stay
-from papers import FAR, SMALL, THREE_ROOMS, TINY, Papers, spans_of, with_guests, without
+from papers import SMALL, THREE_ROOMS, TINY, Papers, spans_of, with_guests, without
 from values import LAST, VALUES, Checks, none_of, shuffled
 
 TWOS = Book(Lasts(Lengths.of(2)))
@@ -32,17 +32,7 @@ def gifts_by_hand(free, spans):
 class GiftsTest(Papers, unittest.TestCase):
     def check(self, calendar, book):
         paper = fewest_gifts(calendar=calendar, book=book)
-        self.assertIs(type(paper), Gifts)
-        self.same(list(paper.nights), sorted(paper.nights))
-        self.assertIs(type(paper.nights), tuple)
-        self.assertTrue(all(type(night) is int for night in paper.nights))
-        nights = range(calendar.first, calendar.after)
-        self.assertLessEqual(set(paper.nights), set(nights))
-        left = [calendar.free(night) - paper.nights.count(night) for night in nights]
-        self.fills_rooms(calendar, book, paper.stays, left)
-        self.are_heights(calendar, book, paper.heights, -FAR, 0)
-        self.assertTrue(all(paper.heights[night + 1] - paper.heights[night] <= 1 for night in nights))
-        self.same(climb_of(calendar, paper.heights), len(paper.nights))
+        self.is_gifts(calendar, book, paper)
         self.same(len(paper.nights) == 0, is_sellable(calendar, book))
         return len(paper.nights)
 

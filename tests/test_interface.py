@@ -10,6 +10,7 @@ CLASSES = {
               "Either", "Not"],
     "calendars": ["Calendar"], "fills": ["Paper", "Fill", "Bar", "Climb"],
     "gifts": ["Gifts"], "ranges": ["Rooms", "NoRooms"], "wishes": ["Lot"], "judge": ["Case", "Story", "Table"],
+    "houses": ["House"], "lookers": ["Looker", "Watcher"], "desk": ["Desk"],
     "doors": ["Door", "Ahead", "Behind", "Lets", "Weakest", "All", "Some", "No"],
 }
 
@@ -34,6 +35,35 @@ FUNCTIONS = {
         "parted": "(one, other, book)", "is_safe": "(door, book)", "thumb": "(book)", "story": "(door, book, stretch)",
     },
     "reader": {"read_rule": "(text)", "read_door": "(text)", "read_book": "(text)", "read_calendar": "(text)"},
+    "texts": {"calendar_text": "(calendar)"},
+}
+
+METHODS = {
+    ("houses", "House"): {
+        "__init__": "(self, book, rooms, first, after)", "sell": "(self, name, stay)", "sells": "(self, stay)",
+        "offers": "(self)", "sell_all": "(self, rows)", "cancel": "(self, name)", "change": "(self, name, stay)",
+        "set_book": "(self, book)", "set_rooms": "(self, rooms)", "calendar_now": "(self)", "fill_now": "(self)",
+        "undo": "(self)", "trial": "(self)", "tried": "(self, work)", "twin": "(self)",
+    },
+    ("lookers", "Looker"): {
+        "__init__": "(self, calendar, book)", "fills": "(self, paper)", "bars": "(self, paper)",
+        "climbs": "(self, paper, word)", "gives": "(self, paper)", "ranges": "(self, paper)",
+        "lots": "(self, paper, wishes)",
+    },
+    ("lookers", "Watcher"): {
+        "__init__": "(self, door, book)", "closed": "(self, paper, stretch)", "tells": "(self, paper, stretch)",
+    },
+    ("desk", "Desk"): {
+        "__init__": "(self)", "ask": "(self, line)", "__call__": "(self, line)", "run": "(self, *lines)",
+        "house_now": "(self)",
+    },
+    ("gifts", "Gifts"): {"__init__": "(self, stays, nights, heights)"},
+    ("ranges", "Rooms"): {"__init__": "(self, fewest, most, lower, upper, filled)"},
+    ("ranges", "NoRooms"): {"__init__": "(self, lower, upper, both)"},
+    ("wishes", "Lot"): {"__init__": "(self, taken, stays, heights, worth)"},
+    ("judge", "Case"): {"__init__": "(self, stretch, stay)"},
+    ("judge", "Story"): {"__init__": "(self, stays)"},
+    ("judge", "Table"): {"__init__": "(self, stretches)"},
 }
 
 
@@ -45,6 +75,12 @@ class InterfaceTest(unittest.TestCase):
                 kind = getattr(module, told)
                 self.assertTrue(inspect.isclass(kind), told)
                 self.assertEqual(kind.__module__, module.__name__)
+
+    def test_methods(self):
+        for (name, kind), methods in METHODS.items():
+            body = vars(getattr(importlib.import_module(f"nodeadnight.{name}"), kind))
+            for told, parameters in methods.items():
+                self.assertEqual(str(inspect.signature(body[told])), parameters, (kind, told))
 
     def test_functions(self):
         for name, functions in FUNCTIONS.items():

@@ -13,7 +13,9 @@ from nodeadnight.ranges import NoRooms, Rooms, rooms_for
 from nodeadnight.reader import read_book
 from nodeadnight.rules import Lasts
 from nodeadnight.stays import Stay
-from papers import SMALL, THREE_ROOMS, TINY, Papers, is_filled_by_hand, name_of, spans_of, with_guests
+from papers import (
+    SMALL, THREE_ROOMS, TINY, Papers, guests_of, is_filled_by_hand, name_of, number_of, spans_of, with_guests,
+)
 from values import LAST, VALUES, Checks, none_of, shuffled
 
 TWOS = Book(Lasts(Lengths.of(2)))
@@ -29,16 +31,6 @@ TWO_FILLS = [
     (5, "3+1 0+1 4+1 3+1 0+1 1+1 2+1 4+1 1+1", "day 3 day 4 day 1 3 day 3 4 day 4 day 4 day 1", 2, 3),
     (4, "0+1 1+1 3+1 2+1 0+1 3+1 1+1 0+1 0+1 1+1", "day 3 day 1 2 day 2 day 4 day 1 day none day 2 3", 4, 5),
 ]
-
-
-def guests_of(calendar):
-    return [calendar.rooms - free for free in calendar.free_rooms]
-
-
-def number_of(calendar, days):
-    """The number of a set of days, as the document tells it."""
-    stays = [stay for _, stay in calendar.guests()]
-    return sum(stay.after in days for stay in stays) - sum(stay.first in days for stay in stays)
 
 
 def closed_sets(calendar, book):
@@ -60,64 +52,11 @@ def put(calendar, *stays):
 class Ranges(Papers):
     """Mixed into a TestCase."""
 
-    def is_side(self, calendar, book, days, has_first, has_after):
-        self.is_closed(calendar, book, days)
-        self.same([calendar.first in days, calendar.after in days], [has_first, has_after])
-
-    def fills_with(self, calendar, book, stays, rooms):
-        self.fills_rooms(calendar, book, stays, [rooms - many for many in guests_of(calendar)])
-
     def check(self, calendar, book):
         """Checks the paper of a calendar, and returns it."""
         paper = rooms_for(calendar=calendar, book=book)
-        if type(paper) is Rooms:
-            self.check_rooms(calendar, book, paper)
-        else:
-            self.assertIs(type(paper), NoRooms)
-            self.check_none(calendar, book, paper)
+        self.is_range(calendar, book, paper)
         return paper
-
-    def check_rooms(self, calendar, book, paper):
-        self.assertIs(type(paper.fewest), int)
-        self.assertGreaterEqual(paper.fewest, 1)
-        if paper.fewest == 1:
-            self.same(paper.lower, None)
-        else:
-            self.is_side(calendar, book, paper.lower, False, True)
-            self.same(number_of(calendar, paper.lower), paper.fewest)
-        numbers = [paper.fewest]
-        if paper.most is None:
-            self.is_row(calendar, book, paper.upper)
-        else:
-            self.assertIs(type(paper.most), int)
-            self.is_side(calendar, book, paper.upper, True, False)
-            self.same(number_of(calendar, paper.upper), -paper.most)
-            self.assertGreaterEqual(paper.most, paper.fewest)
-            numbers = sorted({paper.fewest, paper.most})
-        self.assertIs(type(paper.filled), tuple)
-        self.same(len(paper.filled), len(numbers))
-        for stays, rooms in zip(paper.filled, numbers):
-            self.fills_with(calendar, book, stays, rooms)
-
-    def is_row(self, calendar, book, row):
-        self.assertIs(type(row), tuple)
-        self.same([row[0].first, row[-1].after], [calendar.first, calendar.after])
-        self.assertTrue(all(stay in book for stay in row))
-        self.assertTrue(all(one.after == other.first for one, other in itertools.pairwise(row)))
-
-    def check_none(self, calendar, book, paper):
-        if paper.both is not None:
-            self.same([paper.lower, paper.upper], [None, None])
-            self.is_closed(calendar, book, paper.both)
-            self.same(calendar.first in paper.both, calendar.after in paper.both)
-            self.assertGreater(number_of(calendar, paper.both), 0)
-            return
-        self.is_side(calendar, book, paper.upper, True, False)
-        least = 1
-        if paper.lower is not None:
-            self.is_side(calendar, book, paper.lower, False, True)
-            least = number_of(calendar, paper.lower)
-        self.assertLess(-number_of(calendar, paper.upper), least)
 
 
 def does(paper, rooms):

@@ -7,12 +7,12 @@ import unittest
 from nodeadnight.books import Book
 from nodeadnight.calendars import Calendar
 from nodeadnight.errors import BadBook, BadCalendar, BadWish, Dead, TooMany
-from nodeadnight.fills import Paper, climb_of, is_sellable
+from nodeadnight.fills import Paper, is_sellable
 from nodeadnight.lengths import Lengths
 from nodeadnight.rules import Lasts
 from nodeadnight.stays import Stay
 from nodeadnight.wishes import Lot, best_lot, can_take, fates
-from papers import FAR, SMALL, THREE_ROOMS, TINY, Papers, is_filled_by_hand, spans_of, with_guests
+from papers import SMALL, THREE_ROOMS, TINY, Papers, is_filled_by_hand, left_behind, spans_of, with_guests
 from values import LAST, NO_ROWS, VALUES, Checks, none_of, shuffled
 
 TWOS = Book(Lasts(Lengths.of(2)))
@@ -30,11 +30,6 @@ def some_wishes(source, calendar, book):
     worths = source.choice([[0, 1, 2], [0], [5], [0, 3, MOST], [1, 2, 4, 8, 16], list(range(40))])
     kinds = [source.choice(stays) for _ in range(source.randint(1, 4))] if stays else []
     return [(source.choice(kinds if source.random() < 0.6 else stays), source.choice(worths)) for _ in range(many)]
-
-
-def left_behind(calendar, stays):
-    return [calendar.free(night) - sum(night in stay for stay in stays)
-            for night in range(calendar.first, calendar.after)]
 
 
 def lots_by_hand(calendar, book, wishes):
@@ -60,15 +55,7 @@ class Lots(Papers):
 
     def check(self, calendar, book, wishes):
         paper = best_lot(calendar=calendar, book=book, wishes=wishes)
-        self.assertIs(type(paper), Lot)
-        self.assertIs(type(paper.taken), tuple)
-        self.same(list(paper.taken), sorted(set(paper.taken)))
-        self.assertTrue(all(type(at) is int and 0 <= at < len(wishes) for at in paper.taken))
-        self.fills_rooms(calendar, book, paper.stays, left_behind(calendar, [wishes[at][0] for at in paper.taken]))
-        self.same(paper.worth, sum(wishes[at][1] for at in paper.taken))
-        self.are_heights(calendar, book, paper.heights, 0, FAR)
-        beyond = [worth - paper.heights[stay.after] + paper.heights[stay.first] for stay, worth in wishes]
-        self.same(climb_of(calendar, paper.heights) + sum(max(0, more) for more in beyond), paper.worth)
+        self.is_lot(calendar, book, wishes, paper)
         return paper
 
 

@@ -5,12 +5,15 @@ import random
 from nodeadnight.books import Book
 from nodeadnight.calendars import Calendar
 from nodeadnight.days import Days
+from nodeadnight.desk import Desk
 from nodeadnight.doors import All, Weakest
 from nodeadnight.errors import BadCount, TooMany
 from nodeadnight.fills import Bar, Climb, Fill
 from nodeadnight.gifts import Gifts
+from nodeadnight.houses import House
 from nodeadnight.judge import Case, Story, Table
 from nodeadnight.lengths import Lengths
+from nodeadnight.lookers import Looker, Watcher
 from nodeadnight.ranges import NoRooms, Rooms
 from nodeadnight.rules import Comes, Lasts, Not
 from nodeadnight.stays import Stay
@@ -24,6 +27,7 @@ OBJECTS = [
     Climb((), {0: 0, 1: 0}), Gifts((), (0,), {0: 0, 1: 1}), Rooms(1, None, None, (Stay(0, 1),), ((Stay(0, 1),),)),
     NoRooms(None, (0,), None), Lot((), (Stay(0, 1),), {0: 0, 1: 0}, 0), Case(Stretch(0, 3), Stay(0, 3)),
     Story((Stay(0, 1),)), Table((Stretch(0, 1),)), All(), Weakest(Book.every()), BadCount(1), TooMany("rules", 30),
+    House(Book.every(), 1, 0, 1), Looker(Calendar(1, 0, 1), Book.every()), Watcher(All(), Book.every()), Desk(),
 ]
 
 # Values that are no integers, of every kind that may be passed as any value.
