@@ -125,8 +125,8 @@ def told(house, word, values):
         return " ".join([str(stay) for stay in house.offers()]) or "none"
     if word == "best":
         wishes = list(zip(values[0::2], values[1::2]))
-        worth = best_lot(calendar, house.book, wishes).worth
-        return " ".join([str(worth), *fates(calendar, house.book, wishes)])
+        worth, words = best_lot(calendar, house.book, wishes).worth, fates(calendar, house.book, wishes)
+        return " ".join([str(worth), *words])
     paper = rooms_for(calendar, house.book)
     greatest = "-" if paper.most is None else str(paper.most)
     return f"{paper.fewest} {greatest}"

@@ -162,7 +162,7 @@ def first_case(one, other, book, turn, reach):
     # Whether ahead of a stay, behind it or in it: as many nights as reach or more are alike to some fewer ones.
     ground = Ground(book, 3 * reach)
     told, refused = Sight(one, ground), Sight(other, ground)
-    for nights in [*list(range(3 * reach)), None]:
+    for nights in list(range(3 * reach)) + [None]:
         for day in range(turn):
             if ground.is_live_on(day, nights):
                 gap, many = first_sale(told, refused, day, nights, reach)

@@ -176,6 +176,25 @@ class LanguageTest(unittest.TestCase):
                              and isinstance(part.value, ast.Call)
                              and ast.unparse(part.value.func) in ("range", "zip", "enumerate", "reversed"))
 
+    def test_no_files_that_import_from_each_other(self):
+        told = {path.stem: {node.module.split(".")[1] for node in ast.parse(path.read_text()).body
+                            if isinstance(node, ast.ImportFrom) and node.module.startswith("nodeadnight.")}
+                for path in FILES}
+        # Again and again the files are left out that import from none of those that are left.
+        while any(not others for others in told.values()):
+            done = {name for name, others in told.items() if not others}
+            told = {name: others - done for name, others in told.items() if name not in done}
+        self.assertEqual(told, {})
+
+    def test_each_attribute_is_assigned_or_defined(self):
+        named = {node.name for _, node in nodes(ast.FunctionDef)}
+        named |= {node.attr for _, node in nodes(ast.Attribute) if isinstance(node.ctx, ast.Store)}
+        named |= {target.id for _, kind in nodes(ast.ClassDef) for node in kind.body if isinstance(node, ast.Assign)
+                  for target in node.targets}
+        read = {node.attr for _, node in nodes(ast.Attribute) if isinstance(node.ctx, ast.Load)}
+        plain = set(dir(str)) | set(dir(list)) | set(dir(dict)) | set(dir(int)) | {"setter"}
+        self.assertEqual(read - named - plain, set())
+
     def test_each_import_is_used(self):
         for path in FILES:
             tree = ast.parse(path.read_text())
