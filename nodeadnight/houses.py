@@ -107,8 +107,6 @@ class House:
     def change(self, name, stay):
         """Gives a guest another stay, in the place of the one."""
         calendar = self._state.calendar
-        if name not in calendar:
-            raise NoGuest(name)
         rest = calendar.twin()
         rest.drop(name)
         check_within(rest, stay)

@@ -34,6 +34,15 @@ def drawn(source):
 DRAWN = shuffled(121, 160, drawn)
 
 
+def longer_round(source):
+    """A book of a round of three to seven days, on some of which nothing is let, that the judge takes."""
+    while True:
+        rows = [Lengths.of(*source.sample(range(1, 6), source.choice([0, 1, 1, 2]))) for _ in range(source.randint(3, 7))]
+        book = Book.by_days(*rows)
+        if book.round > 2 and book.size <= 60 and sum(reach_of(book)) <= 20:
+            return book
+
+
 def reach_of(book, sets=(), turns=()):
     """T and Q of a book, with further sets and rounds."""
     told = [book.lengths_on(day) for day in range(book.round)] + [fillable(book, day) for day in range(book.round)]
@@ -94,6 +103,17 @@ class PartedTest(Checks, unittest.TestCase):
         self.assertEqual(parted(one, other, book), Case(Stretch(0, None), Stay(14, 34)))
         fives = Some(Weakest(Book(Lasts(Lengths.of(5)))), No(Lets(Lasts(Lengths.of(5)))))
         self.assertEqual(parted(All(), fives, Book(Lasts(Lengths.of(1, 5)))), Case(Stretch(0, 6), Stay(0, 5)))
+
+    def test_endless_stretches_of_longer_rounds(self):
+        found = []
+        for book in shuffled(122, 40, longer_round):
+            # The door sells in endless stretches alone; there the weakest one asks whether the days behind are live.
+            one, other = Behind(Lengths.none()), Weakest(book)
+            begin, period = reach_of(book)
+            self.same(parted(one, other, book), first_by_hand(one, other, book, begin + period, book.round))
+            self.same(parted(other, one, book) is None, first_by_hand(other, one, book, 8, book.round) is None)
+            found.append(parted(one, other, book) is None)
+        self.assertTrue(5 < sum(found) < 35)
 
     def test_the_least_day_and_the_first_stay(self):
         book = Book(Lasts(Lengths.of(1)))

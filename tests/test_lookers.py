@@ -47,6 +47,14 @@ def some_wishes(source, calendar, book):
     return [(source.choice(stays), source.choice([0, 1, 3, 10 ** 9])) for _ in range(source.randint(0, 6) if stays else 0)]
 
 
+def two_fills():
+    """A calendar and a book for which three rooms, four or five do."""
+    calendar = Calendar(12, 0, 3)
+    for name, stay in zip(["a", "b", "c", "d", "e"], ["0+1", "2+1", "0+1", "2+1", "0+1"]):
+        calendar[name] = Stay.read(stay)
+    return calendar, Book.by_days(Lengths.of(2, 4), Lengths.of(1, 2))
+
+
 def papers_of(calendar, book, wishes):
     """All papers of a calendar, each with the name of the method that looks at it, and what else it takes."""
     yield "gives", fewest_gifts(calendar, book), ()
@@ -195,6 +203,27 @@ class LookerTest(Papers, unittest.TestCase):
                        look.gives(Gifts((), (far,), {})), look.lots(Lot((far,), row, {}, far), []),
                        look.ranges(NoRooms((far,), (far,), None)), look.ranges(NoRooms(None, None, (far,)))],
                       [False] * 8)
+
+    def test_other_closed_sets_of_ranges(self):
+        for calendar, book in CALENDARS[:120] + [two_fills()]:
+            look, paper = Looker(calendar, book), rooms_for(calendar, book)
+            days = range(calendar.first, calendar.after + 1)
+            sets = [chosen for many in range(min(len(days), 8)) for chosen in itertools.combinations(days, many)]
+            for part, chosen in itertools.product(["lower", "upper", "both"], sets[:80]):
+                if hasattr(paper, part):
+                    other = type(paper)(**{**vars(paper), part: chosen})
+                    self.same(look.ranges(other), self.is_right(calendar, book, "ranges", other, ()))
+                    alone = NoRooms(None, None, chosen) if part == "both" else NoRooms(None, chosen, None)
+                    self.same(look.ranges(alone), self.is_right(calendar, book, "ranges", alone, ()))
+
+    def test_numbers_that_are_not_the_ends(self):
+        calendar, book = two_fills()
+        look, paper = Looker(calendar, book), rooms_for(calendar, book)
+        fills = {rooms: fill_of(calendar.with_rooms(rooms), book).stays for rooms in [3, 4, 5]}
+        for fewest, most in itertools.product([3, 4, 5], [3, 4, 5, None]):
+            filled = (fills[fewest],) if most in (None, fewest) else (fills[fewest], fills[most])
+            told = Rooms(fewest, most, paper.lower, paper.upper, filled)
+            self.same(look.ranges(told), (fewest, most) == (3, 5))
 
     def test_wrong_values(self):
         for value in none_of(Calendar):
