@@ -2,7 +2,7 @@
 
 from nodeadnight.books import check_book
 from nodeadnight.calendars import Calendar, check_free, check_new, check_within, with_change
-from nodeadnight.errors import BadRow, Dead, Loose, NoDeed, NoGuest, NotLet
+from nodeadnight.errors import BadRow, Dead, Loose, NoDeed, NotLet
 from nodeadnight.fills import Bar, fill_of, whole_flow
 from nodeadnight.stays import check_stay
 from nodeadnight.stretches import row_of

@@ -6,7 +6,6 @@ import unittest
 
 from nodeadnight.books import Book
 from nodeadnight.calendars import Calendar
-from nodeadnight.days import Days
 from nodeadnight.errors import (
     BadBook, BadCalendar, BadName, BadRow, BadStay, Dead, Full, Loose, NoDeed, NoGuest, NotLet, Outside, Taken,
     TooMany,
@@ -14,11 +13,11 @@ from nodeadnight.errors import (
 from nodeadnight.fills import Fill, is_sellable
 from nodeadnight.houses import House
 from nodeadnight.lengths import Lengths
-from nodeadnight.rules import Comes, Lasts
+from nodeadnight.rules import Lasts
 from nodeadnight.stays import Stay
 from house_model import BOOKS, ONES, SHORT, THREES, TWOS, Compared, Model, empty, is_named, some_deed
 from papers import Papers, name_of
-from values import LAST, NO_ROWS, VALUES, Checks, no_days, none_of, shuffled
+from values import LAST, NO_ROWS, VALUES, no_days, none_of, shuffled
 
 ONES = Book(Lasts(Lengths.of(1)))
 TWOS = Book(Lasts(Lengths.of(2)))
@@ -154,7 +153,7 @@ class DeedsTest(Houses, unittest.TestCase):
         stays = [Stay(number % 40, number % 40 + 1) for number in range(120)]
         house.sell_all([(name_of(number), stays[number]) for number in range(99)])
         self.same([len(house), house.sells(stays[99]), len(list(house.offers())), house.sells(stays[0])],
-                  [99, True, 21 + 0, False])
+                  [99, True, 21, False])
         house["last"] = stays[99]
         self.same([len(house), house.sells(stays[100]), list(house.offers())], [100, False, []])
         self.refused(TooMany, {"what": "guests", "most": 100}, house.sell, "more", stays[100])
@@ -422,7 +421,7 @@ class NowTest(Houses, unittest.TestCase):
                 work()
             self.same([house.deeds, house.names], [0, ()])
 
-    def test_attributes_of_kinds(self):
+    def test_properties_without_a_setter(self):
         house = House(TWOS, 1, 0, 4)
         for name in ["names", "deeds"]:
             with self.assertRaises(AttributeError):

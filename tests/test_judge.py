@@ -37,7 +37,8 @@ DRAWN = shuffled(121, 160, drawn)
 def longer_round(source):
     """A book of a round of three to seven days, on some of which nothing is let, that the judge takes."""
     while True:
-        rows = [Lengths.of(*source.sample(range(1, 6), source.choice([0, 1, 1, 2]))) for _ in range(source.randint(3, 7))]
+        rows = [Lengths.of(*source.sample(range(1, 6), source.choice([0, 1, 1, 2])))
+                for _ in range(source.randint(3, 7))]
         book = Book.by_days(*rows)
         if book.round > 2 and book.size <= 60 and sum(reach_of(book)) <= 20:
             return book

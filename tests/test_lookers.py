@@ -9,7 +9,7 @@ from nodeadnight.calendars import Calendar
 from nodeadnight.days import Days
 from nodeadnight.doors import Ahead, All, Behind, Door, Lets, No, Some, Weakest
 from nodeadnight.errors import BadBook, BadCalendar, BadDoor, BadStretch, BadWish, Dead, TooMany
-from nodeadnight.fills import Bar, Climb, Fill, fewest_stays, fill_of, is_sellable, most_stays
+from nodeadnight.fills import Bar, Climb, Fill, fewest_stays, fill_of, most_stays
 from nodeadnight.gifts import Gifts, fewest_gifts
 from nodeadnight.judge import Case, Story, Table, story
 from nodeadnight.lengths import Lengths
@@ -44,7 +44,8 @@ def passes(check, *arguments):
 
 def some_wishes(source, calendar, book):
     stays = list(book.let_stays(calendar.first, calendar.after))
-    return [(source.choice(stays), source.choice([0, 1, 3, 10 ** 9])) for _ in range(source.randint(0, 6) if stays else 0)]
+    many = source.randint(0, 6) if stays else 0
+    return [(source.choice(stays), source.choice([0, 1, 3, 10 ** 9])) for _ in range(many)]
 
 
 def two_fills():
@@ -135,7 +136,8 @@ class LookerTest(Papers, unittest.TestCase):
 
     def test_values_of_every_kind(self):
         look = Looker(Calendar(2, 0, 4), TWOS)
-        for method, kinds in [(look.fills, Fill), (look.bars, Bar), (look.gives, Gifts), (look.ranges, (Rooms, NoRooms))]:
+        for method, kinds in [(look.fills, Fill), (look.bars, Bar), (look.gives, Gifts),
+                              (look.ranges, (Rooms, NoRooms))]:
             for value in none_of(kinds):
                 self.same(method(value), False)
             self.same(method(paper=None), False)
@@ -334,7 +336,8 @@ class WatcherTest(Watched, unittest.TestCase):
         part = [Stretch(0, 2), Stretch(0, 4), Stretch(2, 2)]
         self.same([watch.closed(Table(tuple(part)), Stretch(0, 4)), watch.closed(Table(tuple(part)), Stretch(0, 2)),
                    watch.closed(Table(tuple(part)), Stretch(0, 0)), watch.closed(Table(tuple(part)), Stretch(1, 2)),
-                   watch.closed(Table(tuple(part[:2])), Stretch(0, 4)), watch.closed(Table(tuple(part[:1])), Stretch(0, 2)),
+                   watch.closed(Table(tuple(part[:2])), Stretch(0, 4)),
+                   watch.closed(Table(tuple(part[:1])), Stretch(0, 2)),
                    watch.closed(Table((part[1], part[0], part[2])), Stretch(0, 4)),
                    watch.closed(Table((part[0], *part)), Stretch(0, 4)), watch.closed(Table(part), Stretch(0, 4)),
                    watch.closed(Table((Stretch(-9, 2), *part, Stretch(40, 2))), Stretch(0, 4)),
@@ -388,7 +391,8 @@ class WatcherTest(Watched, unittest.TestCase):
                        watch.closed(Table((Stretch(0, 3), value)), Stretch(0, 3)),
                        watch.tells(Story((value,)), Stretch(0, 8))], [False, False, False])
         self.same([watch.tells(Case(Stretch(0, 8), Stay(0, 3)), Stretch(0, 8)),
-                   watch.tells(Table((Stay(0, 3),)), Stretch(0, 8)), watch.closed(Story((Stretch(0, 3),)), Stretch(0, 3))],
+                   watch.tells(Table((Stay(0, 3),)), Stretch(0, 8)),
+                   watch.closed(Story((Stretch(0, 3),)), Stretch(0, 3))],
                   [False, False, False])
 
     def test_wrong_values(self):

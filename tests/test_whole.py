@@ -122,7 +122,8 @@ class HousesTest(Checks, unittest.TestCase):
 
     def test_what_is_offered(self):
         for calendar, book in CALENDARS:
-            if is_sellable(calendar, book) and is_sellable(Calendar(calendar.rooms, calendar.first, calendar.after), book):
+            without_guests = Calendar(calendar.rooms, calendar.first, calendar.after)
+            if is_sellable(calendar, book) and is_sellable(without_guests, book):
                 stays = list(book.let_stays(calendar.first, calendar.after))
                 house = House(Book.every(), calendar.rooms, calendar.first, calendar.after)
                 house.sell_all([(name, calendar[name]) for name in calendar])
