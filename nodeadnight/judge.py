@@ -92,7 +92,9 @@ def story(door, book, stretch):
     waiting, at = [start], 0
     while at < len(waiting):
         place = waiting[at]
-        for stay, left in sales_in(sight, place):
+        # All of them at once: the places that wait, of which this is one, are added to below.
+        sales = list(sales_in(sight, place))
+        for stay, left in sales:
             for part in left:
                 if part[1] > 0 and part not in links:
                     links[part] = (place, stay)

@@ -38,6 +38,99 @@ def nodes(kind):
                 yield path.name, node
 
 
+# Methods that change what they are called on.
+CHANGING = {"append", "clear", "extend", "insert", "pop", "remove", "reverse", "setdefault", "update", "add", "discard",
+            "sort"}
+
+
+def path_of(node):
+    """A variable with the attributes that are read off it, as a text; of an item what it is an item of; or None."""
+    if isinstance(node, ast.Subscript):
+        return path_of(node.value)
+    if isinstance(node, ast.Attribute):
+        whole = path_of(node.value)
+        return whole and f"{whole}.{node.attr}"
+    return node.id if isinstance(node, ast.Name) else None
+
+
+def name_of(call):
+    """The name of the function or the method that is called."""
+    return call.func.attr if isinstance(call.func, ast.Attribute) else getattr(call.func, "id", None)
+
+
+def walks_in(node, walks):
+    """What the calls of generators in a node are passed, the object of a method with it."""
+    for call in ast.walk(node):
+        if isinstance(call, ast.Call) and name_of(call) in walks:
+            passed = call.args + [word.value for word in call.keywords]
+            yield from passed + ([call.func.value] if isinstance(call.func, ast.Attribute) else [])
+
+
+def walked_by(node, walks):
+    """What a loop with this head goes over, what the generators in it are passed among it."""
+    found = list(walks_in(node, walks))
+    if isinstance(node, ast.Call):
+        if name_of(node) in ("enumerate", "zip", "reversed"):
+            found += [part for value in node.args for part in walked_by(value, walks)]
+        if name_of(node) in ("items", "keys", "values"):
+            found.append(node.func.value)
+    elif isinstance(node, (ast.IfExp, ast.BoolOp)):
+        parts = [node.body, node.orelse] if isinstance(node, ast.IfExp) else node.values
+        found += [part for value in parts for part in walked_by(value, walks)]
+    else:
+        found.append(node)
+    return found
+
+
+def held_by(function):
+    """For each local variable the paths of which it may be a part, by an assignment or a loop."""
+    found = {}
+    for node in ast.walk(function):
+        if isinstance(node, ast.Assign):
+            pairs = [(node.targets[0], node.value)]
+            if isinstance(node.targets[0], ast.Tuple) and isinstance(node.value, ast.Tuple):
+                pairs = list(zip(node.targets[0].elts, node.value.elts))
+        elif isinstance(node, ast.For):
+            pairs = [(node.target, node.iter)]
+        else:
+            continue
+        for target, value in pairs:
+            for name in [part.id for part in ast.walk(target) if isinstance(part, ast.Name)]:
+                found.setdefault(name, []).extend(path_of(part) for part in walked_by(value, set()))
+    return found
+
+
+def kept_paths(heads, held):
+    """The paths of heads, and those of all that they are parts of."""
+    found, waiting = set(), [path_of(head) for head in heads]
+    while waiting:
+        path = waiting.pop()
+        if path is not None and path not in found:
+            found.add(path)
+            waiting.extend(held.get(path.split(".")[0], []))
+    return found
+
+
+def changes_in(loop):
+    """The nodes in a loop that change something, each with the path of what is changed."""
+    for node in [part for statement in loop.body for part in ast.walk(statement)]:
+        if isinstance(node, ast.Call) and isinstance(node.func, ast.Attribute) and node.func.attr in CHANGING:
+            yield node, path_of(node.func.value)
+        elif isinstance(node, (ast.Subscript, ast.Attribute)) and not isinstance(node.ctx, ast.Load):
+            yield node, path_of(node)
+
+
+def changed_while_walked(tree, walks):
+    """The nodes by which a loop changes what it goes over, what a generator was passed, or what these are parts of."""
+    for function in [node for node in ast.walk(tree) if isinstance(node, ast.FunctionDef)]:
+        held = held_by(function)
+        for loop in [node for node in ast.walk(function) if isinstance(node, ast.For)]:
+            kept = kept_paths(walked_by(loop.iter, walks), held)
+            for node, path in changes_in(loop):
+                if path is not None and any(path == each or path.startswith(each + ".") for each in kept):
+                    yield node
+
+
 def kind_of(method):
     """Whether a method is a plain one, a property or another one."""
     marks = [ast.unparse(mark) for mark in method.decorator_list]
@@ -51,6 +144,12 @@ def is_plain_number(node):
     if isinstance(node, ast.Call):
         return ast.unparse(node.func) in ("int", "len", "str", "set")
     return isinstance(node, ast.Constant)
+
+
+def generators():
+    """The names of the generators of the package."""
+    return {node.name for _, node in nodes(ast.FunctionDef)
+            if any(isinstance(part, (ast.Yield, ast.YieldFrom)) for part in ast.walk(node))}
 
 
 class LanguageTest(unittest.TestCase):
@@ -157,10 +256,30 @@ class LanguageTest(unittest.TestCase):
             self.assertEqual(names[kind] & names[other], set(), (kind, other))
 
     def test_names_of_generators(self):
-        functions = [node for _, node in nodes(ast.FunctionDef)]
-        walks = [node for node in functions if any(isinstance(part, ast.Yield) for part in ast.walk(node))]
-        for walk in walks:
-            self.assertEqual(len([node for node in functions if node.name == walk.name]), 1, walk.name)
+        functions = [node.name for _, node in nodes(ast.FunctionDef)]
+        for walk in generators():
+            self.assertEqual(functions.count(walk), 1, walk)
+
+    def test_no_loop_changes_what_it_goes_over(self):
+        for path in FILES:
+            found = changed_while_walked(ast.parse(path.read_text()), generators())
+            self.none_of((path.name, node) for node in found)
+
+    def test_the_check_of_loops(self):
+        """The check itself: what it is to find, and what is to pass."""
+        for head, change, wrong in [
+            ("rows", "rows.append(k)", True), ("rows", "rows[k] = 1", True), ("rows[0]", "rows.pop()", True),
+            ("self.rows", "self.rows.append(k)", True), ("self.rows", "self.seen.append(k)", False),
+            ("enumerate(rows)", "rows.clear()", True), ("rows.items()", "del rows[k]", True),
+            ("rows if rows else seen", "seen.append(k)", True), ("list(rows)", "rows.append(k)", False),
+            ("steps(rows)", "rows.append(k)", True), ("steps(a=rows)", "rows.append(k)", True),
+            ("list(steps(rows))", "rows.append(k)", True), ("rows.steps()", "rows.seen = k", True),
+            ("steps(one)", "rows.append(k)", True), ("steps(one)", "seen.append(k)", False),
+            ("every", "rows.append(k)", False), ("steps(one)", "one.append(k)", True),
+        ]:
+            text = f"def f(self, rows, seen):\n one = rows[0]\n every = list(steps(one))\n for k in {head}:\n  {change}"
+            found = list(changed_while_walked(ast.parse(text), {"steps"}))
+            self.assertEqual(len(found), int(wrong), (head, change))
 
     def test_texts(self):
         for name, node in nodes(ast.FunctionDef):
