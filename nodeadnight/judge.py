@@ -92,15 +92,16 @@ def story(door, book, stretch):
     waiting, at = [start], 0
     while at < len(waiting):
         place = waiting[at]
-        # All of them at once: the places that wait, of which this is one, are added to below.
-        sales = list(sales_in(sight, place))
-        for stay, left in sales:
+        # A list of its own: the places that wait, of which this is one, are added to only when its sales are through.
+        fresh = []
+        for stay, left in sales_in(sight, place):
             for part in left:
                 if part[1] > 0 and part not in links:
                     links[part] = (place, stay)
-                    waiting.append(part)
+                    fresh.append(part)
                     if not ground.is_live_on(part[0], part[1]):
                         return Story(stays_to(part, links))
+        waiting.extend(fresh)
         at = at + 1
     return table_of(waiting)
 

@@ -82,7 +82,17 @@ def walked_by(node, walks):
     return found
 
 
-def held_by(function):
+def told_by(value, walks):
+    """What a variable that is told by a value may be a part of.
+
+    A list(..) is looked through, however deep: only in the head of the loop itself it shows that a copy is gone over.
+    """
+    if isinstance(value, ast.Call) and name_of(value) in ("list", "tuple", "sorted") and value.args:
+        return list(walks_in(value, walks)) + told_by(value.args[0], walks)
+    return walked_by(value, walks)
+
+
+def held_by(function, walks):
     """For each local variable the paths of which it may be a part, by an assignment or a loop."""
     found = {}
     for node in ast.walk(function):
@@ -96,7 +106,7 @@ def held_by(function):
             continue
         for target, value in pairs:
             for name in [part.id for part in ast.walk(target) if isinstance(part, ast.Name)]:
-                found.setdefault(name, []).extend(path_of(part) for part in walked_by(value, set()))
+                found.setdefault(name, []).extend(path_of(part) for part in told_by(value, walks))
     return found
 
 
@@ -123,7 +133,7 @@ def changes_in(loop):
 def changed_while_walked(tree, walks):
     """The nodes by which a loop changes what it goes over, what a generator was passed, or what these are parts of."""
     for function in [node for node in ast.walk(tree) if isinstance(node, ast.FunctionDef)]:
-        held = held_by(function)
+        held = held_by(function, walks)
         for loop in [node for node in ast.walk(function) if isinstance(node, ast.For)]:
             kept = kept_paths(walked_by(loop.iter, walks), held)
             for node, path in changes_in(loop):
@@ -275,9 +285,16 @@ class LanguageTest(unittest.TestCase):
             ("steps(rows)", "rows.append(k)", True), ("steps(a=rows)", "rows.append(k)", True),
             ("list(steps(rows))", "rows.append(k)", True), ("rows.steps()", "rows.seen = k", True),
             ("steps(one)", "rows.append(k)", True), ("steps(one)", "seen.append(k)", False),
-            ("every", "rows.append(k)", False), ("steps(one)", "one.append(k)", True),
+            ("steps(one)", "one.append(k)", True), ("every", "rows.append(k)", True),
+            ("every", "seen.append(k)", False),
+            ("every[0]", "one.append(k)", True), ("list(every)", "rows.append(k)", False),
+            ("copied", "rows.append(k)", True), ("copied", "copied.append(k)", True), ("copied", "every.pop()", False),
         ]:
-            text = f"def f(self, rows, seen):\n one = rows[0]\n every = list(steps(one))\n for k in {head}:\n  {change}"
+            text = f"""def f(self, rows, seen):
+                one, copied = rows[0], list(rows)
+                every = list(steps(one))
+                for k in {head}:
+                    {change}"""
             found = list(changed_while_walked(ast.parse(text), {"steps"}))
             self.assertEqual(len(found), int(wrong), (head, change))
 
